@@ -2,12 +2,21 @@
 package annal
 
 import (
+	"bytes"
+	"slices"
+
 	"annal/api"
 	"annal/digest"
+	"annal/tree"
 )
 
+const sizeWidth = 8 // bytes of a size under the tag of a head
+
 // Log keeps entries.
-type Log struct{}
+type Log struct {
+	key     []byte
+	entries [][]byte
+}
 
 // Hash tells the hash of bytes (P3).
 func Hash(data []byte) api.Digest { return digest.Hash(data) }
@@ -16,22 +25,66 @@ func Hash(data []byte) api.Digest { return digest.Hash(data) }
 func Tag(key []byte, data []byte) api.Digest { return digest.Tag(key, data) }
 
 // New makes a log (P4).
-func New(key []byte) (*Log, api.Errno) { return nil, api.OK }
+func New(key []byte) (*Log, api.Errno) {
+	if len(key) > api.MaxKey {
+		return nil, api.ErrLong
+	}
+	return &Log{key: bytes.Clone(key)}, api.OK
+}
 
 // Append adds an entry (P4).
-func (l *Log) Append(entry []byte) (int, api.Errno) { return 0, api.OK }
+func (l *Log) Append(entry []byte) (int, api.Errno) {
+	if len(entry) > api.MaxEntry || len(l.entries) >= api.MaxEntries {
+		return 0, api.ErrLong
+	}
+	number := len(l.entries)
+	l.entries = append(l.entries, bytes.Clone(entry))
+	return number, api.OK
+}
 
 // Root tells the root of the first n entries (P5).
-func (l *Log) Root(n int) (api.Digest, api.Errno) { return api.Digest{}, api.OK }
+func (l *Log) Root(n int) (api.Digest, api.Errno) {
+	if n < 0 || n > len(l.entries) {
+		return api.Digest{}, api.ErrArg
+	}
+	return tree.Root(l.entries[:n]), api.OK
+}
 
 // Head tells the log's head (P5).
-func (l *Log) Head() api.Head { return api.Head{} }
+func (l *Log) Head() api.Head {
+	size, root := len(l.entries), tree.Root(l.entries)
+	return api.Head{Size: size, Root: root, Tag: headTag(l.key, size, root)}
+}
+
+// headTag tells the tag that a head with this size (not below 0) and root has.
+func headTag(key []byte, size int, root api.Digest) api.Digest {
+	return digest.Tag(key, slices.Concat(highestFirst(uint64(size), sizeWidth), root[:]))
+}
+
+// highestFirst writes a number out as so many bytes.
+func highestFirst(number uint64, width int) []byte {
+	out := make([]byte, width)
+	for i := range out {
+		out[width-1-i] = byte(number >> (8 * i))
+	}
+	return out
+}
 
 // Path shows that an entry is there (P6).
-func (l *Log) Path(i int, n int) ([]api.Digest, api.Errno) { return nil, api.OK }
+func (l *Log) Path(i int, n int) ([]api.Digest, api.Errno) {
+	if n < 1 || n > len(l.entries) || i < 0 || i >= n {
+		return nil, api.ErrArg
+	}
+	return tree.Path(l.entries[:n], i), api.OK
+}
 
 // Link shows that the log only grew (P6).
-func (l *Log) Link(m int, n int) ([]api.Digest, api.Errno) { return nil, api.OK }
+func (l *Log) Link(m int, n int) ([]api.Digest, api.Errno) {
+	if n < 0 || n > len(l.entries) || m < 0 || m > n {
+		return nil, api.ErrArg
+	}
+	return tree.Link(l.entries[:n], m), api.OK
+}
 
 // Save writes the log as a file (P11).
 func (l *Log) Save() string { return "" }

@@ -1,0 +1,179 @@
+package annal_test
+
+import (
+	"crypto/sha256"
+	"math/bits"
+	"slices"
+	"testing"
+
+	"annal/annal"
+	"annal/api"
+)
+
+// What is wanted is reckoned here in another way than the program's: level by level from the leaves up, and links by looking at them as RFC 9162 (2.1.4.2) does.
+
+func wantLeaf(entry []byte) api.Digest {
+	return sha256.Sum256(slices.Concat([]byte{0}, entry))
+}
+
+func wantKnot(left, right api.Digest) api.Digest {
+	return sha256.Sum256(slices.Concat([]byte{1}, left[:], right[:]))
+}
+
+// levels of the tree: the leaves first. A digest without a neighbour goes up as it is.
+func levels(entries [][]byte) [][]api.Digest {
+	var level []api.Digest
+	for _, e := range entries {
+		level = append(level, wantLeaf(e))
+	}
+	all := [][]api.Digest{level}
+	for len(level) > 1 {
+		var above []api.Digest
+		for pair := range slices.Chunk(level, 2) {
+			if len(pair) == 2 {
+				above = append(above, wantKnot(pair[0], pair[1]))
+			} else {
+				above = append(above, pair[0])
+			}
+		}
+		level = above
+		all = append(all, level)
+	}
+	return all
+}
+
+func wantRoot(entries [][]byte) api.Digest {
+	if len(entries) == 0 {
+		return sha256.Sum256(nil)
+	}
+	all := levels(entries)
+	return all[len(all)-1][0]
+}
+
+func wantPath(entries [][]byte, i int) []api.Digest {
+	var path []api.Digest
+	for _, level := range levels(entries) {
+		if neighbour := i ^ 1; neighbour < len(level) {
+			path = append(path, level[neighbour])
+		}
+		i /= 2
+	}
+	return path
+}
+
+// linkHolds says whether the link shows that the tree of n with the root now begins with that of m with the root old; m is from 1 to n - 1. No digest of a link that holds can be another one, for each goes into one of the roots.
+func linkHolds(m, n int, link []api.Digest, old, now api.Digest) bool {
+	if bits.OnesCount(uint(m)) == 1 {
+		link = slices.Concat([]api.Digest{old}, link)
+	}
+	if len(link) == 0 {
+		return false
+	}
+	last, end := m-1, n-1
+	for last&1 == 1 {
+		last, end = last>>1, end>>1
+	}
+	below, above := link[0], link[0]
+	for _, c := range link[1:] {
+		if end == 0 {
+			return false
+		}
+		if last&1 == 1 || last == end {
+			below, above = wantKnot(c, below), wantKnot(c, above)
+			for last&1 == 0 && last != 0 {
+				last, end = last>>1, end>>1
+			}
+		} else {
+			above = wantKnot(above, c)
+		}
+		last, end = last>>1, end>>1
+	}
+	return below == old && above == now && end == 0
+}
+
+// sample makes n entries, no two of one length, so that none can stand for another; the first one is empty.
+func sample(n int) [][]byte {
+	var list [][]byte
+	for i := range n {
+		list = append(list, pattern(i*37%(api.MaxEntry+1)))
+	}
+	return list
+}
+
+func newLog(t *testing.T, key []byte) *annal.Log {
+	t.Helper()
+	l, e := annal.New(key)
+	if l == nil || e != api.OK {
+		t.Fatalf("P4: New of a key of %d bytes = %v, %d, want a log", len(key), l, e)
+	}
+	return l
+}
+
+func add(t *testing.T, l *annal.Log, entry []byte, want int) {
+	t.Helper()
+	if i, e := l.Append(entry); i != want || e != api.OK {
+		t.Fatalf("P4: Append of %d bytes = %d, %d, want %d", len(entry), i, e, want)
+	}
+}
+
+func logOf(t *testing.T, key []byte, entries [][]byte) *annal.Log {
+	t.Helper()
+	l := newLog(t, key)
+	for i, e := range entries {
+		add(t, l, e, i)
+	}
+	return l
+}
+
+// checkLog asks the log for all that it tells, and holds it against what these entries ask for.
+func checkLog(t *testing.T, promise string, l *annal.Log, key []byte, entries [][]byte) {
+	t.Helper()
+	checkHead(t, promise, l, key, entries)
+	for n := range len(entries) + 1 {
+		checkRoot(t, promise, l, entries[:n])
+		for i := range n {
+			checkPath(t, promise, l, entries[:n], i)
+		}
+		for m := range n + 1 {
+			checkLink(t, promise, l, entries[:n], m)
+		}
+	}
+}
+
+func checkHead(t *testing.T, promise string, l *annal.Log, key []byte, entries [][]byte) {
+	t.Helper()
+	root := wantRoot(entries)
+	tag := wantTag(key, slices.Concat([]byte{0, 0, 0, 0, 0, 0, 0, byte(len(entries))}, root[:]))
+	if got, want := l.Head(), (api.Head{Size: len(entries), Root: root, Tag: tag}); got != want {
+		t.Errorf("%s: Head() of %d entries = %x, want %x", promise, len(entries), got, want)
+	}
+}
+
+func checkRoot(t *testing.T, promise string, l *annal.Log, entries [][]byte) {
+	t.Helper()
+	got, e := l.Root(len(entries))
+	if want := wantRoot(entries); got != want || e != api.OK {
+		t.Errorf("%s: Root(%d) = %x, %d, want %x", promise, len(entries), got, e, want)
+	}
+}
+
+func checkPath(t *testing.T, promise string, l *annal.Log, entries [][]byte, i int) {
+	t.Helper()
+	got, e := l.Path(i, len(entries))
+	if want := wantPath(entries, i); !slices.Equal(got, want) || e != api.OK {
+		t.Errorf("%s: Path(%d, %d) = %x, %d, want %x", promise, i, len(entries), got, e, want)
+	}
+}
+
+func checkLink(t *testing.T, promise string, l *annal.Log, entries [][]byte, m int) {
+	t.Helper()
+	n := len(entries)
+	got, e := l.Link(m, n)
+	holds := len(got) == 0
+	if m != 0 && m != n {
+		holds = linkHolds(m, n, got, wantRoot(entries[:m]), wantRoot(entries))
+	}
+	if !holds || e != api.OK {
+		t.Errorf("%s: Link(%d, %d) = %x, %d, which is no link", promise, m, n, got, e)
+	}
+}

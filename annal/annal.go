@@ -93,15 +93,35 @@ func (l *Log) Save() string { return "" }
 func Load(key []byte, file string) (*Log, api.Errno, int) { return nil, api.OK, 0 }
 
 // Signed looks at a head (P7).
-func Signed(key []byte, h api.Head) bool { return false }
+func Signed(key []byte, h api.Head) bool {
+	return h.Size >= 0 && h.Tag == headTag(key, h.Size, h.Root)
+}
 
 // Climb tells the root that a path leads to (P8).
 func Climb(entry []byte, i int, n int, path []api.Digest) (api.Digest, api.Errno) {
-	return api.Digest{}, api.OK
+	if n < 1 || i < 0 || i >= n {
+		return api.Digest{}, api.ErrArg
+	}
+	root, ok := tree.Climb(entry, i, n, path)
+	if !ok {
+		return api.Digest{}, api.ErrArg
+	}
+	return root, api.OK
 }
 
 // Extends looks at a link (P9).
-func Extends(m int, n int, link []api.Digest, old api.Digest, now api.Digest) bool { return false }
+func Extends(m int, n int, link []api.Digest, old api.Digest, now api.Digest) bool {
+	switch {
+	case m < 0 || m > n:
+		return false
+	case m == n:
+		return len(link) == 0 && old == now
+	case m == 0:
+		return len(link) == 0 && old == digest.Hash(nil)
+	}
+	before, after, ok := tree.Grow(m, n, link, old)
+	return ok && before == old && after == now
+}
 
 // Clash tells where two ways part, and whether that is a clash (P10).
 func Clash(i int, n int, a []byte, p []api.Digest, b []byte, q []api.Digest) ([]byte, []byte, bool) {

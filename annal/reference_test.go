@@ -2,6 +2,9 @@ package annal_test
 
 import (
 	"crypto/sha256"
+	"encoding/binary"
+	"fmt"
+	"math"
 	"math/bits"
 	"slices"
 	"testing"
@@ -10,7 +13,7 @@ import (
 	"annal/api"
 )
 
-// What is wanted is reckoned here in another way than the program's: level by level from the leaves up, and links by looking at them as RFC 9162 (2.1.4.2) does.
+// What is wanted is reckoned here in another way than the program's: level by level from the leaves up, and paths and links that are looked at as RFC 9162 (2.1.3.2 and 2.1.4.2) looks at them.
 
 func wantLeaf(entry []byte) api.Digest {
 	return sha256.Sum256(slices.Concat([]byte{0}, entry))
@@ -61,35 +64,101 @@ func wantPath(entries [][]byte, i int) []api.Digest {
 	return path
 }
 
-// linkHolds says whether the link shows that the tree of n with the root now begins with that of m with the root old; m is from 1 to n - 1. No digest of a link that holds can be another one, for each goes into one of the roots.
-func linkHolds(m, n int, link []api.Digest, old, now api.Digest) bool {
+// wantClimb goes up from a leaf as RFC 9162 (2.1.3.2) does; i is from 0 to n - 1. It says too whether the path has the length that i and n ask for.
+func wantClimb(entry []byte, i, n int, path []api.Digest) (root api.Digest, right bool) {
+	last, end := i, n-1
+	root = wantLeaf(entry)
+	for _, d := range path {
+		if end == 0 {
+			return root, false
+		}
+		if last&1 == 1 || last == end {
+			root = wantKnot(d, root)
+			for last&1 == 0 && last != 0 {
+				last, end = last>>1, end>>1
+			}
+		} else {
+			root = wantKnot(root, d)
+		}
+		last, end = last>>1, end>>1
+	}
+	return root, end == 0
+}
+
+// linkRoots tells the roots of m and of n entries that come of a link; m is from 1 to n - 1. It says too whether the link has the length that m and n ask for. No digest of a link that holds can be another one, for each goes into one of the roots.
+func linkRoots(m, n int, link []api.Digest, old api.Digest) (below, above api.Digest, right bool) {
 	if bits.OnesCount(uint(m)) == 1 {
 		link = slices.Concat([]api.Digest{old}, link)
 	}
 	if len(link) == 0 {
-		return false
+		return api.Digest{}, api.Digest{}, false
 	}
 	last, end := m-1, n-1
 	for last&1 == 1 {
 		last, end = last>>1, end>>1
 	}
-	below, above := link[0], link[0]
-	for _, c := range link[1:] {
+	below, above = link[0], link[0]
+	for _, d := range link[1:] {
 		if end == 0 {
-			return false
+			return below, above, false
 		}
 		if last&1 == 1 || last == end {
-			below, above = wantKnot(c, below), wantKnot(c, above)
+			below, above = wantKnot(d, below), wantKnot(d, above)
 			for last&1 == 0 && last != 0 {
 				last, end = last>>1, end>>1
 			}
 		} else {
-			above = wantKnot(above, c)
+			above = wantKnot(above, d)
 		}
 		last, end = last>>1, end>>1
 	}
-	return below == old && above == now && end == 0
+	return below, above, end == 0
 }
+
+// linkHolds says whether the link shows that the tree of n with the root now begins with that of m with the root old; m is from 1 to n - 1.
+func linkHolds(m, n int, link []api.Digest, old, now api.Digest) bool {
+	below, above, right := linkRoots(m, n, link, old)
+	return right && below == old && above == now
+}
+
+// wantHead is the head of so many entries with this root, whatever they are.
+func wantHead(key []byte, size int, root api.Digest) api.Head {
+	text := binary.BigEndian.AppendUint64(nil, uint64(size))
+	return api.Head{Size: size, Root: root, Tag: wantTag(key, append(text, root[:]...))}
+}
+
+// digests makes n digests, no two alike.
+func digests(n int) []api.Digest {
+	var list []api.Digest
+	for i := range n {
+		list = append(list, sha256.Sum256(fmt.Appendf(nil, "digest %d", i)))
+	}
+	return list
+}
+
+// turned is the digest with one bit the other way.
+func turned(d api.Digest, bit int) api.Digest {
+	d[bit/8] ^= 1 << (bit % 8)
+	return d
+}
+
+// giants: counts beyond every log, where the levels of the tree are as many as there can be.
+var giants = []int{65, 1000, 1<<20 - 1, 1 << 20, 1<<20 + 1, 1<<32 - 1, 1 << 32, 1<<32 + 1, 1<<61 + 1<<30, 1<<62 - 1, 1 << 62, 1<<62 + 1, 0x2aaaaaaaaaaaaaaa, 0x5555555555555555, math.MaxInt - 1, math.MaxInt}
+
+// within: numbers from 0 to n at which the way through n entries turns.
+func within(n int) []int {
+	list := []int{0, n - 2, n - 1, n, n / 3, n / 2, n/2 + n/4}
+	for k := 1; k > 0 && k <= n; k *= 2 {
+		if k < 8 || k > n/4 || k == 1<<32 {
+			list = append(list, k-1, k, k+1)
+		}
+	}
+	list = slices.DeleteFunc(list, func(i int) bool { return i < 0 || i > n })
+	slices.Sort(list)
+	return slices.Compact(list)
+}
+
+const longest = 66 // more digests than the path or link of any two numbers has
 
 // sample makes n entries, no two of one length, so that none can stand for another; the first one is empty.
 func sample(n int) [][]byte {
@@ -142,9 +211,7 @@ func checkLog(t *testing.T, promise string, l *annal.Log, key []byte, entries []
 
 func checkHead(t *testing.T, promise string, l *annal.Log, key []byte, entries [][]byte) {
 	t.Helper()
-	root := wantRoot(entries)
-	tag := wantTag(key, slices.Concat([]byte{0, 0, 0, 0, 0, 0, 0, byte(len(entries))}, root[:]))
-	if got, want := l.Head(), (api.Head{Size: len(entries), Root: root, Tag: tag}); got != want {
+	if got, want := l.Head(), wantHead(key, len(entries), wantRoot(entries)); got != want {
 		t.Errorf("%s: Head() of %d entries = %x, want %x", promise, len(entries), got, want)
 	}
 }

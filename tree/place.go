@@ -26,3 +26,7 @@ func (p place) knot() []byte { return slices.Concat([]byte{knotMark}, p.left[:],
 
 // hash takes a method value of a place: which method it is says what kind of place it stands for.
 func hash(text func() []byte) api.Digest { return digest.Hash(text()) }
+
+func leafOf(entry []byte) api.Digest { return hash(place{entry: entry}.leaf) }
+
+func knotOf(left, right api.Digest) api.Digest { return hash(place{left: left, right: right}.knot) }

@@ -13,10 +13,10 @@ func Root(entries [][]byte) api.Digest {
 	case 0:
 		return digest.Hash(nil)
 	case 1:
-		return hash(place{entry: entries[0]}.leaf)
+		return leafOf(entries[0])
 	}
 	first, others := split(entries)
-	return hash(place{left: Root(first), right: Root(others)}.knot)
+	return knotOf(Root(first), Root(others))
 }
 
 // Path tells the path of the entry with the number i, which must be one of the entries.

@@ -72,7 +72,7 @@ func highestFirst(number uint64, width int) []byte {
 
 // Path shows that an entry is there (P6).
 func (l *Log) Path(i int, n int) ([]api.Digest, api.Errno) {
-	if n < 1 || n > len(l.entries) || i < 0 || i >= n {
+	if n > len(l.entries) || !isIn(i, n) {
 		return nil, api.ErrArg
 	}
 	return tree.Path(l.entries[:n], i), api.OK
@@ -86,12 +86,6 @@ func (l *Log) Link(m int, n int) ([]api.Digest, api.Errno) {
 	return tree.Link(l.entries[:n], m), api.OK
 }
 
-// Save writes the log as a file (P11).
-func (l *Log) Save() string { return "" }
-
-// Load reads a file (P11).
-func Load(key []byte, file string) (*Log, api.Errno, int) { return nil, api.OK, 0 }
-
 // Signed looks at a head (P7).
 func Signed(key []byte, h api.Head) bool {
 	return h.Size >= 0 && h.Tag == headTag(key, h.Size, h.Root)
@@ -99,7 +93,7 @@ func Signed(key []byte, h api.Head) bool {
 
 // Climb tells the root that a path leads to (P8).
 func Climb(entry []byte, i int, n int, path []api.Digest) (api.Digest, api.Errno) {
-	if n < 1 || i < 0 || i >= n {
+	if !isIn(i, n) {
 		return api.Digest{}, api.ErrArg
 	}
 	root, ok := tree.Climb(entry, i, n, path)
@@ -125,5 +119,11 @@ func Extends(m int, n int, link []api.Digest, old api.Digest, now api.Digest) bo
 
 // Clash tells where two ways part, and whether that is a clash (P10).
 func Clash(i int, n int, a []byte, p []api.Digest, b []byte, q []api.Digest) ([]byte, []byte, bool) {
-	return nil, nil, false
+	if !isIn(i, n) {
+		return nil, nil, false
+	}
+	return tree.Clash(i, n, a, p, b, q)
 }
+
+// isIn says whether i is the number of one of n entries: of less than one there is none.
+func isIn(i int, n int) bool { return 0 <= i && i < n }

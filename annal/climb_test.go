@@ -166,17 +166,25 @@ func TestClimbWithADigestMoreOrLess(t *testing.T) {
 	}
 }
 
-func TestClimbOfWrongNumbers(t *testing.T) {
-	list := digests(longest)
+// wrongNumbers: pairs i, n where i is no number of one of n entries.
+func wrongNumbers() [][2]int {
 	all := slices.Concat(far, []int{-65, -64, -3, -2, -1, 0, 1, 2, 3, 4, 5, 8, 63, 64, 65})
+	var list [][2]int
 	for _, i := range all {
 		for _, n := range all {
-			if n >= 1 && i >= 0 && i < n {
-				continue
+			if n < 1 || i < 0 || i >= n {
+				list = append(list, [2]int{i, n})
 			}
-			for length := range longest {
-				checkNoClimb(t, "wrong numbers", []byte("entry"), i, n, list[:length])
-			}
+		}
+	}
+	return list
+}
+
+func TestClimbOfWrongNumbers(t *testing.T) {
+	list := digests(longest)
+	for _, pair := range wrongNumbers() {
+		for length := range longest {
+			checkNoClimb(t, "wrong numbers", []byte("entry"), pair[0], pair[1], list[:length])
 		}
 	}
 }

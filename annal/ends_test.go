@@ -2,6 +2,7 @@ package annal_test
 
 import (
 	"math"
+	"strings"
 	"testing"
 	"time"
 
@@ -52,31 +53,48 @@ func TestHashAndTagEnd(t *testing.T) {
 	}
 }
 
+// askAll asks a log for all that it tells, at all numbers, and adds to it.
+func askAll(l *annal.Log) {
+	for _, entry := range rows() {
+		l.Append(entry)
+	}
+	for _, i := range numbers {
+		l.Root(i)
+		for _, n := range numbers {
+			l.Path(i, n)
+			l.Link(i, n)
+		}
+	}
+	l.Head()
+	l.Save()
+}
+
 func TestLogEnds(t *testing.T) {
 	for _, key := range rows() {
 		ends(t, "New and what it makes", func() {
-			log, e := annal.New(key)
-			if e != api.OK {
-				return
+			if l, e := annal.New(key); e == api.OK {
+				askAll(l)
 			}
-			for _, entry := range rows() {
-				log.Append(entry)
-			}
-			for _, i := range numbers {
-				log.Root(i)
-				for _, n := range numbers {
-					log.Path(i, n)
-					log.Link(i, n)
-				}
-			}
-			log.Head()
-			annal.Load(key, log.Save())
 		})
-		for _, file := range rows() {
-			ends(t, "Load", func() { annal.Load(key, string(file)) })
-		}
 		for _, n := range numbers {
 			ends(t, "Signed", func() { annal.Signed(key, api.Head{Size: n}) })
+		}
+	}
+}
+
+func TestLoadedLogEnds(t *testing.T) {
+	for _, key := range rows() {
+		saved := wantFile(key, sample(3))
+		files := []string{"", saved, saved[:len(saved)-1], saved + "\x00", saved + saved, strings.Repeat("\x00", 4), strings.Repeat("\xff", 4), strings.Repeat("\xff", 40)}
+		for _, file := range rows() {
+			files = append(files, string(file))
+		}
+		for _, file := range files {
+			ends(t, "Load and what it makes", func() {
+				if l, e, _ := annal.Load(key, file); e == api.OK || e == api.ErrShort {
+					askAll(l)
+				}
+			})
 		}
 	}
 }

@@ -64,25 +64,34 @@ func wantPath(entries [][]byte, i int) []api.Digest {
 	return path
 }
 
-// wantClimb goes up from a leaf as RFC 9162 (2.1.3.2) does; i is from 0 to n - 1. It says too whether the path has the length that i and n ask for.
-func wantClimb(entry []byte, i, n int, path []api.Digest) (root api.Digest, right bool) {
+func wantHash(text []byte) api.Digest { return sha256.Sum256(text) }
+
+// wantTexts goes up from a leaf as RFC 9162 (2.1.3.2) does, and writes down what is hashed, that of the leaf first; i is from 0 to n - 1. It says too whether the path has the length that i and n ask for.
+func wantTexts(hash func([]byte) api.Digest, entry []byte, i, n int, path []api.Digest) (texts [][]byte, right bool) {
 	last, end := i, n-1
-	root = wantLeaf(entry)
-	for _, d := range path {
+	texts = [][]byte{slices.Concat([]byte{0}, entry)}
+	for k, d := range path {
 		if end == 0 {
-			return root, false
+			return texts, false
 		}
+		below := hash(texts[k])
 		if last&1 == 1 || last == end {
-			root = wantKnot(d, root)
+			texts = append(texts, slices.Concat([]byte{1}, d[:], below[:]))
 			for last&1 == 0 && last != 0 {
 				last, end = last>>1, end>>1
 			}
 		} else {
-			root = wantKnot(root, d)
+			texts = append(texts, slices.Concat([]byte{1}, below[:], d[:]))
 		}
 		last, end = last>>1, end>>1
 	}
-	return root, end == 0
+	return texts, end == 0
+}
+
+// wantClimb tells the root at the end of that way.
+func wantClimb(entry []byte, i, n int, path []api.Digest) (root api.Digest, right bool) {
+	texts, right := wantTexts(wantHash, entry, i, n, path)
+	return wantHash(texts[len(texts)-1]), right
 }
 
 // linkRoots tells the roots of m and of n entries that come of a link; m is from 1 to n - 1. It says too whether the link has the length that m and n ask for. No digest of a link that holds can be another one, for each goes into one of the roots.

@@ -4,20 +4,11 @@ import "annal/api"
 
 // Climb tells the root that n entries have of which the one with the number i (from 0 to n - 1) is the entry, with this path. It is not ok, if the path of i in n has another length.
 func Climb(entry []byte, i, n int, path []api.Digest) (root api.Digest, ok bool) {
-	if n == 1 {
-		return leafOf(entry), len(path) == 0
-	}
-	rest, top, ok := cut(path)
+	texts, ok := way(entry, i, n, path)
 	if !ok {
 		return api.Digest{}, false
 	}
-	k := powerBelow(n)
-	if i < k {
-		first, ok := Climb(entry, i, k, rest)
-		return knotOf(first, top), ok
-	}
-	others, ok := Climb(entry, i-k, n-k, rest)
-	return knotOf(top, others), ok
+	return texts[len(path)].hash(), true
 }
 
 // Grow tells the roots of the first m and of all n entries (m from 1 to n) that come of a link between them. Where no digest of the link stands for the root of the m, known does. It is not ok, if a link from m to n has another length.

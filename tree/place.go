@@ -24,9 +24,15 @@ func (p place) leaf() []byte { return slices.Concat([]byte{leafMark}, p.entry) }
 
 func (p place) knot() []byte { return slices.Concat([]byte{knotMark}, p.left[:], p.right[:]) }
 
-// hash takes a method value of a place: which method it is says what kind of place it stands for.
-func hash(text func() []byte) api.Digest { return digest.Hash(text()) }
+// text is a method value of a place: which method it is says what kind of place it stands for. It tells the text in new memory each time.
+type text func() []byte
 
-func leafOf(entry []byte) api.Digest { return hash(place{entry: entry}.leaf) }
+func (t text) hash() api.Digest { return digest.Hash(t()) }
 
-func knotOf(left, right api.Digest) api.Digest { return hash(place{left: left, right: right}.knot) }
+func leafText(entry []byte) text { return place{entry: entry}.leaf }
+
+func knotText(left, right api.Digest) text { return place{left: left, right: right}.knot }
+
+func leafOf(entry []byte) api.Digest { return leafText(entry).hash() }
+
+func knotOf(left, right api.Digest) api.Digest { return knotText(left, right).hash() }

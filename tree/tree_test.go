@@ -38,6 +38,41 @@ func TestTextsOfPlaces(t *testing.T) {
 	}
 }
 
+// written is a way of texts that are written out, one byte each.
+func written(all string) []text {
+	var list []text
+	for i := range len(all) {
+		list = append(list, func() []byte { return []byte{all[i]} })
+	}
+	return list
+}
+
+// Ways that are unlike at any of their texts, which no true ones are: the highest is told.
+func TestPartTellsTheHighest(t *testing.T) {
+	const ours = "abcdef"
+	for length := 1; length <= len(ours); length++ {
+		for unlike := range 1 << length {
+			theirs := []byte(ours[:length])
+			highest := -1
+			for k := range theirs {
+				if unlike>>k&1 == 1 {
+					theirs[k], highest = theirs[k]-'a'+'A', k
+				}
+			}
+			first, second, same := part(written(ours[:length]), written(string(theirs)))
+			if highest < 0 {
+				if first != nil || second != nil || same {
+					t.Errorf("P10: two ways that are alike part at %q, %q, %v", first, second, same)
+				}
+				continue
+			}
+			if string(first) != ours[highest:highest+1] || string(second) != string(theirs[highest:highest+1]) || same {
+				t.Errorf("P10: %q and %q part at %q, %q, %v, want the text %d, false", ours[:length], theirs, first, second, same, highest)
+			}
+		}
+	}
+}
+
 // A text is new memory each time it is told, apart from the entry's.
 func TestTextsShareNothing(t *testing.T) {
 	all := []byte("-entry-and what stands behind it")
